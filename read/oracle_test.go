@@ -123,7 +123,7 @@ func (x *slow) begin() {
 	ends := next.Kind == 0 || next.Kind == api.KEnd || isPunct(next, ",") || isPunct(next, ")") || isPunct(next, "]") || isPunct(next, "|")
 	most := x.stack[len(x.stack)-1].most
 	front, between := x.op(t.Text, true), x.op(t.Text, false)
-	onlyBetween := next.Kind == api.KAtom && x.see(2).Kind != api.KOpen && x.op(next.Text, false).Priority > 0 && x.op(next.Text, true).Priority == 0
+	onlyBetween := next.Kind == api.KAtom && x.op(next.Text, false).Priority > 0 && x.op(next.Text, true).Priority == 0
 	switch {
 	case (t.Kind == api.KAtom || t.Kind == api.KQuote) && next.Kind == api.KOpen:
 		x.wait(2, forArguments, 999, api.Op{Name: t.Text})

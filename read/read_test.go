@@ -430,12 +430,8 @@ func TestFrontAhead(t *testing.T) {
 		looks(t, "(- "+only+" b).", x, only+"(- b)")
 		refuses(t, "- "+only+" .", x, 3+len(only), api.ErrForm)
 	}
-	looks(t, "- =(a,b).", o, "-(=(a b))") // with arguments it is a name, so it begins a term
 	looks(t, "- + (a,b).", o, "+(- ,(a b))")
-	looks(t, `\+ ;(a).`, o, `\+(;(a))`)
-	looks(t, ":- is(a,b,c).", o, ":-(is(a b c))")
 	refuses(t, `\+ = (a).`, o, 3, api.ErrForm)
-	looks(t, "- -(a,b).", o, "-(-(a b))")
 	refuses(t, "- - = a.", o, 2, api.ErrForm) // the second is an atom by itself, of priority 500
 	for most, text := range map[int]string{1200: "%s.", 1199: "p %s.", 999: "f(%s).", 998: "q %s."} {
 		for _, priority := range []int{1, most - 1, most, most + 1} {
@@ -453,6 +449,34 @@ func TestFrontAhead(t *testing.T) {
 				t.Errorf("Term(%q) with %d: %s, %d", closed, priority, plain(y), e)
 			}
 		}
+	}
+}
+
+// P13.1: an operator that is between alone ends what one in front can stand ahead of, also with its arguments behind it.
+func TestFrontAheadOfNames(t *testing.T) {
+	o := ops.New()
+	looks(t, "- =(a).", o, "=(- a)")
+	looks(t, "- =(a,b).", o, "=(- ,(a b))")
+	looks(t, `\+ ;(a).`, o, `;(\+ a)`)
+	looks(t, `\+ ->(a),b.`, o, `->(\+ ,(a b))`)
+	looks(t, "f(- =(a),b).", o, "f(=(- a) b)")
+	looks(t, "[- =(a)|- is(b)].", o, ".(=(- a) is(- b))")
+	for s, at := range map[string]int{"- *(a).": 2, "- *(a,b).": 2, "- *(a,b,c).": 2, "- mod(a).": 2, ":- is(a,b,c).": 3, `\+ =(X, Y).`: 3, `a :- \+ =(X, Y).`: 8, "a ^ - =(b).": 4, "- - =(a).": 2, "f(:- =(a)).": 2, "[- *(a)].": 3, "(- *(a)).": 3} {
+		refuses(t, s, o, at, api.ErrForm)
+	}
+	x := ops.New()
+	x.Set(op("p", api.XFX, 1))
+	refuses(t, ":- p(X).", x, 3, api.ErrForm)
+	refuses(t, `(X) :- \+ p(X)`, x, 10, api.ErrForm)
+	if l, at, e := read.All("a. :- p(X).", x); l != nil || at != 6 || e != api.ErrForm {
+		t.Error(l, at, e)
+	}
+	looks(t, "a :- p(X).", x, ":-(a p(_0))") // elsewhere it is a name
+	looks(t, "a - *(b).", o, "-(a *(b))")
+	looks(t, "- (*(a)).", o, "-(*(a))")
+	looks(t, "-(*(a)).", o, "-(*(a))")
+	for s, want := range map[string]string{"- f(a).": "-(f(a))", ":- p(X).": ":-(p(_0))", "- -(a).": "-(-(a))", "- -(a,b).": "-(-(a b))", `\+ :-(a,b,c).`: `\+(:-(a b c))`, "- '*'(a).": "-(*(a))", "- '='(a,b).": "-(=(a b))", "- ','(a).": "-(,(a))"} {
+		looks(t, s, o, want)
 	}
 }
 

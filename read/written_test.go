@@ -75,6 +75,19 @@ func someTerm(r *rand.Rand, depth int) api.Term {
 	return comp(name, args...)
 }
 
+// standsAhead tells whether an operator in front is spelt ahead of a name that is one between alone, with its arguments behind it: P13.1's grammar has it that no term begins there.
+func standsAhead(t api.Term, o *ops.Table) bool {
+	if _, front := o.Prefix(t.Name); front && token.Plain(t.Name) && len(t.Args) == 1 {
+		name, args := t.Args[0].Name, len(t.Args[0].Args)
+		_, front := o.Prefix(name)
+		_, between := o.Infix(name)
+		if between && !front && token.Plain(name) && args > 0 && args != 2 {
+			return true
+		}
+	}
+	return slices.ContainsFunc(t.Args, func(a api.Term) bool { return standsAhead(a, o) })
+}
+
 // comesBack: what is written is to be read as the term.
 func comesBack(t *testing.T, s string, o *ops.Table, want api.Term) {
 	t.Helper()
@@ -96,6 +109,9 @@ func TestWritten(t *testing.T) {
 		x := someTerm(r, r.Intn(6))
 		for _, o := range tables {
 			comesBack(t, write.Canonical(x), o, x)
+			if standsAhead(x, o) {
+				continue
+			}
 			comesBack(t, spelt(x, o), o, x)
 		}
 	}
