@@ -18,36 +18,6 @@ import (
 	"elenchus/write"
 )
 
-// spelt is t as text: operators in front and between, each within parentheses.
-func spelt(t api.Term, o *ops.Table) string {
-	_, front := o.Prefix(t.Name)
-	_, between := o.Infix(t.Name)
-	name := token.Quote(t.Name)
-	bare := token.Plain(t.Name)
-	switch {
-	case t.Kind == api.TAtom && (front || between) && bare:
-		return "(" + name + ")"
-	case t.Kind != api.TComp:
-		return write.Canonical(t)
-	case t.Name == "." && len(t.Args) == 2:
-		return "[" + spelt(t.Args[0], o) + "|" + spelt(t.Args[1], o) + "]"
-	case len(t.Args) == 2 && between && t.Name == ",":
-		return "(" + spelt(t.Args[0], o) + " , " + spelt(t.Args[1], o) + ")"
-	case len(t.Args) == 2 && between && bare:
-		return "(" + spelt(t.Args[0], o) + " " + name + " " + spelt(t.Args[1], o) + ")"
-	case len(t.Args) == 1 && front && bare:
-		return "(" + name + " " + spelt(t.Args[0], o) + ")"
-	}
-	var l []string
-	for _, a := range t.Args {
-		l = append(l, spelt(a, o))
-	}
-	if t.Name == "[]" {
-		name = "'[]'"
-	}
-	return name + "(" + strings.Join(l, ",") + ")"
-}
-
 // someTerm is a term that may be, with names of every kind.
 func someTerm(r *rand.Rand, depth int) api.Term {
 	names := []string{"a", "f", "-", "+", "=", ":-", `\+`, ",", ";", "!", "|", "[]", ".", "", " ", "A", "_", "1", "it's", "a\nb", `a\b`, "is", "mod", "%", "/*", "(", "'", "''", "\x00\xff", "- ", "-1", "[a]", "{}", strings.Repeat("n", api.MaxName), strings.Repeat("'", api.MaxName)}
@@ -112,7 +82,7 @@ func TestWritten(t *testing.T) {
 			if standsAhead(x, o) {
 				continue
 			}
-			comesBack(t, spelt(x, o), o, x)
+			comesBack(t, write.Ops(x, o), o, x)
 		}
 	}
 }
@@ -135,7 +105,7 @@ func TestWrittenNames(t *testing.T) {
 		for _, x := range []api.Term{atom(name), comp(name, atom(name)), comp(name, whole(1)), comp(name, whole(-1), atom(name)), comp("f", atom(name), atom(name)), pair(atom(name), atom(name)), comp(name, comp(name, comp(name, variable(7), variable(7)), variable(5)))} {
 			for _, table := range []*ops.Table{nil, o} {
 				comesBack(t, write.Canonical(x), table, x)
-				comesBack(t, spelt(x, table), table, x)
+				comesBack(t, write.Ops(x, table), table, x)
 			}
 		}
 	}
@@ -154,7 +124,7 @@ func TestWrittenGreatTerms(t *testing.T) {
 	for _, o := range []*ops.Table{nil, ops.New()} {
 		for _, x := range []api.Term{deep, long, wide} {
 			comesBack(t, write.Canonical(x), o, x)
-			comesBack(t, spelt(x, o), o, x)
+			comesBack(t, write.Ops(x, o), o, x)
 		}
 	}
 }

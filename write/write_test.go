@@ -1,14 +1,12 @@
 package write_test
 
 import (
-	"fmt"
 	"math"
-	"math/rand"
 	"strings"
 	"testing"
 
 	"elenchus/api"
-	"elenchus/token"
+	"elenchus/ops"
 	"elenchus/write"
 )
 
@@ -32,11 +30,29 @@ func list(tail api.Term, items ...api.Term) api.Term {
 
 var end = atom("[]")
 
-// writes: t is to have this text.
+// writes: x is to have this text, by Ops too, where there are no operators.
 func writes(t *testing.T, x api.Term, want string) {
 	t.Helper()
 	if got := write.Canonical(x); got != want {
 		t.Errorf("Canonical(%.200v) = %.200q; want %.200q", x, got, want)
+	}
+	writesOps(t, nil, x, want)
+	writesOps(t, &ops.Table{}, x, want)
+}
+
+// writesPlain: x is to have this text without quotes.
+func writesPlain(t *testing.T, x api.Term, want string) {
+	t.Helper()
+	if got := write.Plain(x); got != want {
+		t.Errorf("Plain(%.200v) = %.200q; want %.200q", x, got, want)
+	}
+}
+
+// writesOps: x is to have this text by the operators of o.
+func writesOps(t *testing.T, o *ops.Table, x api.Term, want string) {
+	t.Helper()
+	if got := write.Ops(x, o); got != want {
+		t.Errorf("Ops(%.200v) = %.200q; want %.200q", x, got, want)
 	}
 }
 
@@ -89,8 +105,28 @@ func TestCanonicalLists(t *testing.T) {
 	writes(t, comp("f", list(end, a), list(b, a)), "f([a],[a|b])")
 }
 
-// P14.1: of a term that may not be there is no text; what its kind gives no meaning counts for nothing.
-func TestCanonicalWrongTerms(t *testing.T) {
+// P14.1: Plain is the same, its names as they are.
+func TestPlain(t *testing.T) {
+	writesPlain(t, comp("+", whole(1), comp("f", list(end, atom("a")), atom("B"))), "+(1,f([a],B))")
+	writesPlain(t, comp("f", variable(3), whole(math.MinInt64), cpx(1, math.MaxUint64)), "f(_3,-9223372036854775808,0c0000000000000001ffffffffffffffff)")
+	for _, name := range []string{"a", "is", "-", "[]", "", "A b", "_", "1", ",", "|", ".", "it's", `a\b`, `\n`, "a\nb", "'", "''", "'a'", "(", ")", "[a]", "/*", "\x00\xff", "é", strings.Repeat("'", api.MaxName)} {
+		writesPlain(t, atom(name), name)
+		writesPlain(t, comp(name, atom(name)), name+"("+name+")")
+		writesPlain(t, comp(name, whole(1), atom(name), whole(3)), name+"(1,"+name+",3)")
+		writesPlain(t, list(end, atom(name)), "["+name+"]")
+		if name != "[]" {
+			writesPlain(t, list(atom(name), atom("x"), atom(name)), "[x,"+name+"|"+name+"]")
+		}
+		writesPlain(t, list(comp(name, atom("b")), atom("x")), "[x|"+name+"(b)]")
+	}
+	writesPlain(t, comp(",", atom("a"), atom("b")), ",(a,b)")
+	writesPlain(t, comp("-", comp("-", whole(1))), "-(-(1))")
+	writesPlain(t, comp(".", atom("a"), end, end), ".(a,[],[])")
+	writesPlain(t, list(variable(0), list(end, atom("A")), end), "[[A],[]|_0]")
+}
+
+// P14.1, P14.2: of a term that may not be there is no text; what its kind gives no meaning counts for nothing.
+func TestWrongTerms(t *testing.T) {
 	many := make([]api.Term, api.MaxArity+1)
 	for i := range many {
 		many[i] = whole(int64(i))
@@ -101,6 +137,8 @@ func TestCanonicalWrongTerms(t *testing.T) {
 	}
 	for _, x := range []api.Term{{}, {Kind: -1}, {Kind: 6}, variable(-1), comp("f"), comp("f", api.Term{}), list(api.Term{}, atom("a")), list(end, variable(-1)), atom(strings.Repeat("a", api.MaxName+1)), comp(strings.Repeat("a", api.MaxName+1), end), comp("f", many...), deep, long} {
 		writes(t, x, "")
+		writesPlain(t, x, "")
+		writesOps(t, ops.New(), x, "")
 	}
 	writes(t, comp("f", many[1:]...), "f(1,2,3,4,5,6,7,8,9,10,11,12,13,14,15,16,17,18,19,20)")
 	writes(t, deep.Args[0], strings.Repeat("f(", api.MaxDepth-1)+"x"+strings.Repeat(")", api.MaxDepth-1))
@@ -109,75 +147,17 @@ func TestCanonicalWrongTerms(t *testing.T) {
 	for kind, want := range map[int]string{api.TVar: "_5", api.TAtom: "n", api.TInt: "5", api.TCpx: "0c00000000000000060000000000000007"} {
 		all.Kind = kind
 		writes(t, all, want)
+		writesPlain(t, all, want)
+		writesOps(t, ops.New(), all, want)
 	}
 	for _, kind := range []int{api.TVar, api.TInt, api.TCpx} {
 		writes(t, list(api.Term{Kind: kind, Name: "[]"}, atom("a")), "[a|"+write.Canonical(api.Term{Kind: kind})+"]")
-	}
-}
-
-// slow is the text of t, put together the plain way.
-func slow(t api.Term) string {
-	switch t.Kind {
-	case api.TVar:
-		return fmt.Sprintf("_%d", t.Int)
-	case api.TInt:
-		return fmt.Sprint(t.Int)
-	case api.TCpx:
-		return fmt.Sprintf("0c%016x%016x", t.Re, t.Im)
-	case api.TAtom:
-		return token.Quote(t.Name)
-	}
-	if t.Name == "." && len(t.Args) == 2 {
-		tail := slow(t.Args[1])
-		switch {
-		case tail == "[]":
-			return "[" + slow(t.Args[0]) + "]"
-		case tail[0] == '[':
-			return "[" + slow(t.Args[0]) + "," + tail[1:]
+		for _, name := range []string{"-", ".", ",", ""} {
+			x := api.Term{Kind: kind, Name: name, Args: []api.Term{whole(1), end}}
+			writesOps(t, ops.New(), x, write.Canonical(api.Term{Kind: kind}))
+			writesOps(t, ops.New(), list(x, atom("a")), "[a|"+write.Canonical(api.Term{Kind: kind})+"]")
 		}
-		return "[" + slow(t.Args[0]) + "|" + tail + "]"
 	}
-	var l []string
-	for _, a := range t.Args {
-		l = append(l, slow(a))
-	}
-	name := token.Quote(t.Name)
-	if name == "[]" {
-		name = "'[]'"
-	}
-	return name + "(" + strings.Join(l, ",") + ")"
-}
-
-func someTerm(r *rand.Rand, depth int) api.Term {
-	name := []string{"a", "f", "+", ",", "[]", ".", "", "A b", "it's"}[r.Intn(9)]
-	kind := r.Intn(9)
-	if depth == 0 {
-		kind %= 5
-	}
-	switch kind {
-	case 0:
-		return variable(int64(r.Intn(4)))
-	case 1:
-		return whole(int64(r.Uint64()))
-	case 2:
-		return cpx(r.Uint64(), r.Uint64())
-	case 3, 4:
-		return atom(name)
-	case 5:
-		return pair(someTerm(r, depth-1), someTerm(r, depth-1))
-	}
-	var args []api.Term
-	for range 1 + r.Intn(kind-4) {
-		args = append(args, someTerm(r, depth-1))
-	}
-	return comp(name, args...)
-}
-
-// P14.1: many terms.
-func TestCanonicalManyTerms(t *testing.T) {
-	r := rand.New(rand.NewSource(14))
-	for range 20000 {
-		x := someTerm(r, r.Intn(6))
-		writes(t, x, slow(x))
-	}
+	writesOps(t, ops.New(), api.Term{Kind: api.TAtom, Name: "-", Args: []api.Term{whole(1)}}, "(-)")
+	writesOps(t, ops.New(), api.Term{Kind: api.TAtom, Name: ".", Args: []api.Term{whole(1), end}}, "'.'")
 }
